@@ -70,3 +70,9 @@ func (s *steps) text(n int) string {
 	}
 	return string(b)
 }
+
+// sameHeader holds the empty and the nil list of versions for the same.
+func sameHeader(a, b impl.Header) bool {
+	return a.Form == b.Form && a.Bits == b.Bits && a.Version == b.Version && a.Dcid == b.Dcid &&
+		a.Scid == b.Scid && a.Token == b.Token && a.Payload == b.Payload && slices.Equal(a.Versions, b.Versions)
+}
