@@ -107,19 +107,42 @@ func TestDestIsReadAlone(t *testing.T) {
 	wantDest(t, "\xc0\x00\x00\x00\x01\x02de\xff", 8, "de", true)
 	wantDest(t, "\xf3\x00\x00\x00\x01\x14"+id, 0, id, true)
 	wantDest(t, "\xe3\x12\x34\x56\x78\x00", 8, "", true)
-	// Nor do the bits of the first byte that are neither of the highest two move it.
-	for low := range 64 {
-		wantDest(t, string([]byte{byte(64 + low)})+id, 20, id, false)
-		wantDest(t, string([]byte{byte(64 + low)})+id, 3, "abc", false)
-		wantDest(t, string([]byte{byte(64 + low)}), 0, "", false)
-		wantDest(t, string([]byte{byte(192 + low)})+"\x00\x00\x00\x00\x03abc", 8, "abc", true)
-		wantNoDest(t, string([]byte{byte(low)})+id, 8)
-		wantNoDest(t, string([]byte{byte(128 + low)})+"\x00\x00\x00\x01\x03abc", 8)
+	// Nor do the bits of the first byte behind the highest one, or the Version, move it.
+	for low := range 128 {
+		wantDest(t, string([]byte{byte(low)})+id, 20, id, false)
+		wantDest(t, string([]byte{byte(low)})+id, 3, "abc", false)
+		wantDest(t, string([]byte{byte(low)}), 0, "", false)
+		wantNoDest(t, string([]byte{byte(low)})+id[:19], 20)
+		for _, version := range []string{"\x00\x00\x00\x00", "\x00\x00\x00\x01", "\xff\xff\xff\xff"} {
+			head := string([]byte{byte(128 + low)}) + version
+			wantDest(t, head+"\x03abc", 8, "abc", true)
+			wantDest(t, head+"\x14"+id, 8, id, true)
+			wantDest(t, head+"\x00", 8, "", true)
+			wantNoDest(t, head+"\x03ab", 8)
+			wantNoDest(t, head, 0)
+			wantNoDest(t, head+"\x15"+letters(30), 8)
+		}
 	}
 	wantNoDest(t, "", 0)
 	wantNoDest(t, "\x40"+id[:19], 20)
 	wantNoDest(t, "\xc0\x00\x00\x00\x01\x15"+letters(30), 8)
 	wantNoDest(t, "\xc0\x00\x00\x00\x01\xff"+letters(300), 8)
+}
+
+// A second highest bit of 0 hinders ReadHeader and CutDatagram alone.
+func TestDestWhereNoHeaderIsRead(t *testing.T) {
+	for _, c := range headersAsTold() {
+		long := c.h.Form != impl.FormShort
+		s := string([]byte{c.s[0] &^ 64}) + c.s[1:]
+		wantDest(t, s, shortOf(c.h), c.h.Dcid, long)
+		if _, _, code := impl.ReadHeader(s, shortOf(c.h)); code != impl.ReadKind {
+			t.Errorf("%x: %d", s, code)
+		}
+		wantNoCut(t, s, shortOf(c.h))
+		for _, short := range []int{-1, impl.MaxId + 1, minInt, maxInt} {
+			wantNoDest(t, s, short)
+		}
+	}
 }
 
 func TestVersionAnswerGoesBack(t *testing.T) {
