@@ -1,6 +1,7 @@
 package tests
 
 import (
+	"encoding/hex"
 	"slices"
 	"strings"
 	"unsafe"
@@ -75,4 +76,13 @@ func (s *steps) text(n int) string {
 func sameHeader(a, b impl.Header) bool {
 	return a.Form == b.Form && a.Bits == b.Bits && a.Version == b.Version && a.Dcid == b.Dcid &&
 		a.Scid == b.Scid && a.Token == b.Token && a.Payload == b.Payload && slices.Equal(a.Versions, b.Versions)
+}
+
+// unhex reads hex, blanks aside; what is no hex is a mistake of the test itself.
+func unhex(s string) string {
+	b, err := hex.DecodeString(strings.ReplaceAll(s, " ", ""))
+	if err != nil {
+		panic(err)
+	}
+	return string(b)
 }
