@@ -239,16 +239,24 @@ func TestAgesAtAnyArguments(t *testing.T) {
 		edges := []int{-1, 0, 1, impl.MaxTime - 1, impl.MaxTime, impl.MaxTime + 1, minInt, maxInt, s.below(impl.MaxTime)}
 		return edges[s.below(len(edges))]
 	}
+	aged, long := 0, 0
 	for range 3000 {
-		m, now := impl.Minted{Dcid: s.text(s.below(21)), Time: pick(), New: s.below(2) == 0}, pick()
-		good := m.Time >= 0 && now >= m.Time && now <= 1000000000
+		m, now := impl.Minted{Dcid: s.text(s.below(26)), Time: pick(), New: s.below(2) == 0}, pick()
+		timely := m.Time >= 0 && now >= m.Time && now <= 1000000000
+		good := timely && len(m.Dcid) <= 20
 		want := 0
 		if good {
 			want = now - m.Time
+			aged++
+		} else if timely {
+			long++
 		}
 		if age, ok := impl.AgeOf(m, now); age != want || ok != good {
 			t.Fatalf("%#v at %d: %d %v", m, now, age, ok)
 		}
+	}
+	if aged < 100 || long < 100 {
+		t.Error(aged, long)
 	}
 }
 

@@ -151,7 +151,7 @@ func TestTokensRefused(t *testing.T) {
 func TestAges(t *testing.T) {
 	const most = impl.MaxTime
 	for _, c := range [][3]int{{0, 0, 0}, {0, 1, 1}, {1, 1, 0}, {7, 10, 3}, {0, most, most}, {most, most, 0}, {most - 1, most, 1}, {1, most, most - 1}} {
-		for _, dcid := range []string{"", "orig", letters(20)} {
+		for _, dcid := range []string{"", "orig", letters(19), letters(20)} {
 			for _, isNew := range []bool{false, true} {
 				m := impl.Minted{Dcid: dcid, Time: c[0], New: isNew}
 				if age, ok := impl.AgeOf(m, c[1]); age != c[2] || !ok {
@@ -162,11 +162,17 @@ func TestAges(t *testing.T) {
 	}
 }
 
-// The chapter asks of an age the two times alone.
-func TestAgesOfAnyDcid(t *testing.T) {
-	for _, n := range []int{21, 5000} {
-		if age, ok := impl.AgeOf(impl.Minted{Dcid: letters(n), Time: 7}, 10); age != 3 || !ok {
-			t.Errorf("%d bytes: %d %v", n, age, ok)
+// What is minted with a Dcid beyond MaxId is not good, and so has no age at any time.
+func TestAgesOfLongDcids(t *testing.T) {
+	const most = impl.MaxTime
+	for _, n := range []int{21, 22, 40, 200, 1493, 5000} {
+		for _, c := range [][2]int{{0, 0}, {7, 10}, {0, most}, {most, most}, {8, 7}, {-1, 0}, {0, most + 1}} {
+			for _, isNew := range []bool{false, true} {
+				m := impl.Minted{Dcid: letters(n), Time: c[0], New: isNew}
+				if age, ok := impl.AgeOf(m, c[1]); age != 0 || ok {
+					t.Errorf("%d bytes, minted at %d, at %d: %d %v", n, c[0], c[1], age, ok)
+				}
+			}
 		}
 	}
 }
