@@ -214,19 +214,38 @@ func TestRoutesAtAnyArguments(t *testing.T) {
 
 func TestFirstPacketsAtAnyArguments(t *testing.T) {
 	var s steps
-	first := 0
-	for range 4000 {
+	first, alone := 0, 0
+	for range 6000 {
 		a, _ := s.someArriving(t, s.someBalancer())
-		l, ok := impl.CutDatagram(a.s, a.b.Short)
-		if !balancerTold(a.b) || !ok || len(l) == 0 {
+		_, size, code := impl.ReadHeader(a.s, a.b.Short)
+		if !balancerTold(a.b) || len(a.s) > 1500 || code != impl.ReadOk {
 			wantNoFirst(t, a.b, a.s, "any arguments")
 			continue
 		}
 		first++
-		wantFirst(t, a.b, a.s, l[0])
+		wantFirst(t, a.b, a.s, a.s[:size])
+		l, ok := impl.CutDatagram(a.s, a.b.Short)
+		if !ok {
+			alone++
+		} else if l[0] != a.s[:size] {
+			t.Errorf("%x: %x first", a.s, l[0])
+		}
 	}
-	if first < 500 || first > 3500 {
-		t.Error(first)
+	if first < 750 || first > 5250 || alone < 50 {
+		t.Error(first, alone)
+	}
+}
+
+// A packet that tells its own length stays the first one, whatever comes behind it.
+func TestFirstPacketsAheadOfAnyBytes(t *testing.T) {
+	var s steps
+	for range 1500 {
+		b := s.balancer()
+		p := longPacket(s.below(3), 1+s.below(3), s.text(s.below(21)), s.text(s.below(21)), s.text(s.below(201)), s.text(1+s.below(900)))
+		wantFirst(t, b, p, p)
+		wantFirst(t, b, p+s.text(1+s.below(1500-len(p))), p)
+		wantNoFirst(t, b, p+s.text(1501-len(p)+s.below(99)), "too many bytes")
+		wantNoFirst(t, b, p[:s.below(len(p))], "cut off")
 	}
 }
 

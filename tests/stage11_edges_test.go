@@ -326,14 +326,61 @@ func TestFirstPacketsThatAreNone(t *testing.T) {
 	}
 }
 
-// CutDatagram tells the first packet where it tells them all.
+// sizedPackets tell their own length, so that others may stand behind them; the last ones have lengths longer than needed.
+func sizedPackets() []string {
+	return []string{
+		initialPacket("", 30),
+		initialPacket("token", 1),
+		longPacket(impl.FormInitial, 9, "", "", letters(200), "p"),
+		longPacket(impl.FormZero, 2, "d", "s", "", "z"),
+		longPacket(impl.FormHandshake, 1, letters(20), letters(20), "", letters(300)),
+		"\xc3\x00\x00\x00\x01\x01d\x01s" + varint(2, 8) + "tt" + varint(3, 4) + "pay",
+		"\xe0\x00\x00\x00\x01\x01d\x01s" + varint(3, 1) + "pay",
+	}
+}
+
+// The first packet alone is asked to be readable; CutDatagram tells nothing of these.
 func TestFirstPacketsAheadOfOthersThatAreNone(t *testing.T) {
 	initial := initialPacket("", 30)
 	for _, b := range bothBalancers() {
-		for _, behind := range []string{"\x00", "\x00\x00\x00", "\x40", "\x40short", "\xc0", initial[:len(initial)-1], "\x80" + initial[1:]} {
-			wantNoFirst(t, b, initial+behind, "what follows is not read")
-			wantNoFirst(t, b, initial+initial+behind, "what follows is not read")
+		for _, first := range sizedPackets() {
+			left := impl.MaxPayload - len(first)
+			for _, behind := range []string{"\x00", "\x00\x00\x00", "\x40", "\x40short", "\xc0", "no packet", initial[:len(initial)-1], "\x80" + initial[1:], initial + "\x00", strings.Repeat("\x00", left)} {
+				wantFirst(t, b, first+behind, first)
+				wantFirst(t, b, first+first+behind[:min(len(behind), left-len(first))], first)
+				wantNoCut(t, first+behind, b.Short)
+			}
+			wantNoFirst(t, b, first+strings.Repeat("\x00", left+1), "a byte too many")
+			wantNoFirst(t, b, first+strings.Repeat("\x00", 5000), "many too many")
 		}
+	}
+}
+
+func TestTheFirstPacketAheadOfANought(t *testing.T) {
+	first := "\xc0\x00\x00\x00\x01\x04abcd\x02ef\x00@\x05hello"
+	wantFirst(t, impl.Balancer{Short: 4, Version: 1}, first+"\x00", first)
+	wantNoFirst(t, impl.Balancer{Short: 0, Version: 1}, first+"\x00", "no balancer")
+}
+
+// Those that go up to the end have what stands behind them for their own, and are none where that can't be theirs.
+func TestFirstPacketsUpToTheEnd(t *testing.T) {
+	retry, versions := longPacket(impl.FormRetry, 1, "d", "s", "", "t"), versionsElsewhere("d", "s", 1)
+	short := "\x40" + strangeId
+	for _, b := range bothBalancers() {
+		for _, behind := range []string{"\x00", "\x40", "\xc0", "no packet", strings.Repeat("\x00", 1199)} {
+			wantFirst(t, b, retry+behind, retry+behind)
+			wantFirst(t, b, short+behind, short+behind)
+		}
+		wantNoFirst(t, b, retry+strings.Repeat("\x00", 1200), "a long Payload")
+		wantNoFirst(t, b, short+strings.Repeat("\x00", 1201), "a long Payload")
+		for n := range 4 {
+			wantNoFirst(t, b, versions[:len(versions)-4+n], "the first version is cut off")
+		}
+		for n := 1; n < 4; n++ {
+			wantNoFirst(t, b, versions+strings.Repeat("\x00", n), "no whole version")
+		}
+		wantFirst(t, b, versions+strings.Repeat("\x00", 4*19), versions+strings.Repeat("\x00", 4*19))
+		wantNoFirst(t, b, versions+strings.Repeat("\x00", 4*20), "too many versions")
 	}
 }
 
@@ -350,6 +397,7 @@ func TestFirstPacketsOfTheEdges(t *testing.T) {
 	first := longPacket(impl.FormHandshake, 1, strangeId, "me", "", letters(1200))
 	left := impl.MaxPayload - len(first)
 	wantFirst(t, b, first+"\x40"+letters(left-1), first)
+	wantFirst(t, b, first+letters(left), first)
 	wantNoFirst(t, b, first+"\x40"+letters(left), "a byte too many")
 	wantNoFirst(t, b, strings.Repeat(initialPacket("", 30), 50), "many too many")
 }
