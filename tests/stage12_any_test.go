@@ -102,7 +102,7 @@ func (s *steps) someNumber(base int) int {
 
 func TestRangesAtAnyArguments(t *testing.T) {
 	var s steps
-	good, cut := 0, 0
+	good, outside, cut := 0, 0, 0
 	for range 20000 {
 		base := s.someBase()
 		l, n := s.someRanges(base), s.someNumber(base)
@@ -110,14 +110,19 @@ func TestRangesAtAnyArguments(t *testing.T) {
 		if impl.GoodRanges(l) != told {
 			t.Fatalf("%v: not %v", l, told)
 		}
-		if !told || n < 0 || n > mostVarint {
+		if !told {
 			wantNoPut(t, l, n, "any arguments")
 			wantNoHas(t, l, n, "any arguments")
 			continue
 		}
-		good++
 		set := setOf(l)
 		wantHas(t, l, n, set[n])
+		if n < 0 || n > mostVarint {
+			outside++
+			wantNoPut(t, l, n, "any arguments")
+			continue
+		}
+		good++
 		set[n] = true
 		want := set.told()
 		if len(want) > 20 {
@@ -129,8 +134,8 @@ func TestRangesAtAnyArguments(t *testing.T) {
 			t.FailNow()
 		}
 	}
-	if good < 10000 || good > 18000 || cut < 100 {
-		t.Error(good, cut)
+	if good < 10000 || good > 18000 || outside < 100 || cut < 100 {
+		t.Error(good, outside, cut)
 	}
 }
 

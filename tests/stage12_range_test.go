@@ -196,7 +196,7 @@ func TestRangesThatAreGood(t *testing.T) {
 }
 
 func TestRangesThatAreNotGood(t *testing.T) {
-	numbers := []int{-1, 0, 1, 4, 6, 8, 1000, mostVarint, mostVarint + 1}
+	numbers := []int{minInt, -1, 0, 1, 4, 6, 8, 1000, mostVarint, mostVarint + 1, maxInt}
 	for why, l := range noRanges() {
 		if impl.GoodRanges(l) {
 			t.Errorf("%s: %v is good", why, l)
@@ -211,11 +211,12 @@ func TestRangesThatAreNotGood(t *testing.T) {
 	}
 }
 
+// A number that can't be put is looked for like any other, and is in no range.
 func TestNumbersThatAreNone(t *testing.T) {
 	for _, l := range goodRanges() {
 		for _, n := range []int{-1, -2, minInt, mostVarint + 1, mostVarint + 2, maxInt} {
 			wantNoPut(t, l, n, "no number")
-			wantNoHas(t, l, n, "no number")
+			wantHas(t, l, n, false)
 		}
 	}
 }
@@ -324,11 +325,7 @@ func TestNumbersInRanges(t *testing.T) {
 			}
 			// No two touch, so that what is beside one is in none.
 			for _, n := range []int{r.From - 1, r.To + 1} {
-				if n >= 0 && n <= mostVarint {
-					wantHas(t, l, n, false)
-				} else {
-					wantNoHas(t, l, n, "beside the ends of all numbers")
-				}
+				wantHas(t, l, n, false)
 			}
 		}
 	}
